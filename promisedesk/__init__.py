@@ -1,0 +1,1 @@
+"""Promisedesk: promises of time that are kept whatever comes."""
