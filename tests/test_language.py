@@ -105,6 +105,8 @@ class LanguageTest(unittest.TestCase):
             if hasattr(builtins, node.id):
                 self.assertIn(node.id, BUILTINS, (name, node.lineno))
                 self.assertIsInstance(node.ctx, ast.Load, (name, node.lineno))
+        for name, node in nodes(ast.arg):
+            self.assertFalse(hasattr(builtins, node.arg), (name, node.lineno))
 
     def test_methods(self):
         own = {node.name for _, node in nodes(ast.FunctionDef)}
