@@ -4,7 +4,7 @@ import unittest
 from itertools import product
 
 from promisedesk.desks import Desk, Stream
-from promisedesk.errors import DeskError
+from promisedesk.errors import BadValue, DeskError, TooMany
 from promisedesk.steps import deals_at, moment_by, scene_behind
 
 
@@ -46,6 +46,11 @@ WIDE_STREAM = Stream(((((0, 0, 0), 0), ((1, 1, 1), 0), ((), 0)),))
 PLACES = ((DESK, STREAM), (FREE, FLOW), (STUCK, DRIP))
 
 
+# Wants more than 400 scenes.
+CROWD = Desk(3, ((4, 12, (0, 1, 2), (), False), (4, 12, (0, 1, 2), (), False)))
+CROWD_STREAM = Stream(((((0, 0, 1), 0), ((0, 1, 1), 0)),))
+
+
 class Raises(unittest.TestCase):
     """A test that asks which error is raised, with which number."""
 
@@ -54,6 +59,25 @@ class Raises(unittest.TestCase):
             call(*told)
         self.assertIs(type(caught.exception), error, told)
         self.assertEqual(caught.exception.at, at, told)
+
+
+    def assert_word(self, word, call, *told):
+        with self.assertRaises(DeskError) as caught:
+            call(*told)
+        self.assertIs(type(caught.exception), TooMany, told)
+        self.assertEqual(caught.exception.word, word, told)
+
+    def assert_wants_desk_and_stream(self, call, *told):
+        """That the errors of the first two arguments are raised, ahead of all others."""
+        for value in ODD + (STREAM, (), (1, DESK.kinds)):
+            self.assert_at(BadValue, 1, call, value, STREAM, *told)
+            self.assert_at(BadValue, 1, call, value, None, *told)
+        for value in ODD + (DESK, (), STREAM.states):
+            self.assert_at(BadValue, 2, call, DESK, value, *told)
+        # Only kind 2 of the stream does not fit; and the scenes would be too many.
+        pair = Desk(3, CROWD.kinds)
+        self.assert_at(BadValue, 2, call, pair, Stream(CROWD_STREAM.states + ((((2,), 0),),)), *told)
+        self.assert_at(BadValue, 2, call, STUCK, STREAM, *told)
 
 
 def many(count):
