@@ -1,10 +1,15 @@
 """Forms of values: questions that may be asked of any value, and fail for none."""
 
 
+def is_whole(value):
+    """Whether value is an integer."""
+    # A bool is an int for Python, but no integer here.
+    return isinstance(value, int) and not isinstance(value, bool)
+
+
 def is_between(value, low, high):
     """Whether value is an integer from low to high."""
-    # A bool is an int for Python, but no integer here.
-    return isinstance(value, int) and not isinstance(value, bool) and low <= value <= high
+    return is_whole(value) and low <= value <= high
 
 
 def is_sequence(value):

@@ -1,10 +1,7 @@
 """Whether a desk can keep all promises whatever comes: books, papers and rounds."""
 
 from promisedesk.desks import check_both
-from promisedesk.reach import explored
-
-# The number of the first scene.
-START = 0
+from promisedesk.reach import START, explored
 
 
 def turns_into(reach):

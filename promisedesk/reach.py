@@ -4,10 +4,12 @@ from promisedesk.errors import TooMany
 from promisedesk.steps import FIRST, moments_of, ways_on
 
 MOST_SCENES = 400
+# The number of the first scene.
+START = 0
 
 
 class Reach:
-    """Scenes of a desk and a stream, numbered as they are met; the first scene is number 0.
+    """Scenes of a desk and a stream, numbered as they are met; the first scene is number START.
 
     It sets no limit of its own, as the checkers know none.
     """
@@ -16,7 +18,7 @@ class Reach:
         self.desk = desk
         self.stream = stream
         self.scenes = [FIRST]
-        self._numbers = {FIRST: 0}
+        self._numbers = {FIRST: START}
         self._moments = {}
         self._ways = {}
         self._behind = {}

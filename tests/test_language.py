@@ -132,6 +132,30 @@ class LanguageTest(unittest.TestCase):
             if isinstance(node.value, str):
                 self.assertNotIn("%", node.value, (name, node.lineno))
 
+    def test_no_generators(self):
+        # The classes that compare would want lists in most places; so there are lists everywhere.
+        barred = (ast.GeneratorExp, ast.Yield, ast.YieldFrom)
+        self.assertEqual([name for name, _ in nodes(*barred)], [])
+
+    def test_sets_are_written_where_they_are_used(self):
+        for name, node in nodes(ast.Assign, ast.Return, ast.For, ast.comprehension, ast.List, ast.Tuple, ast.Dict):
+            parts = [getattr(node, part, None) for part in ("value", "iter")] + list(getattr(node, "elts", ()))
+            for part in parts:
+                text = ast.unparse(part) if isinstance(part, ast.AST) else ""
+                self.assertFalse(isinstance(part, (ast.Set, ast.SetComp)) or text.startswith("set("), (name, text))
+
+    def test_errors_are_own_ones(self):
+        made = {node.name for name, node in nodes(ast.ClassDef) if name == "errors.py"}
+        for name, node in nodes(ast.ExceptHandler):
+            self.assertIn(ast.unparse(node.type), made, (name, node.lineno))
+        for name, node in nodes(ast.Raise):
+            self.assertIsInstance(node.exc, ast.Call, (name, node.lineno))
+            self.assertIn(ast.unparse(node.exc.func), made - {"DeskError"}, (name, node.lineno))
+
+    def test_words_that_stand_in_no_file(self):
+        for path in files():
+            self.assertNotRegex(path.read_text(encoding="ascii"), r"\b(type|typing|enum|Enum|Generic|Protocol|ABC)\b", path)
+
     def test_is_with_none_and_truths_alone(self):
         for name, node in nodes(ast.Compare):
             for sign, right in zip(node.ops, node.comparators):

@@ -4,11 +4,14 @@ import unittest
 
 from promisedesk.ahead import knowing, scenes_behind
 from promisedesk.checking import book_holds, paper_holds, sets_hold
-from promisedesk.desks import Desk, Stream
+from promisedesk.desks import Desk, Stream, longer
 from promisedesk.keeping import keep, rounds
+from promisedesk.least import fewest_agents, least_more
+from promisedesk.ranks import idle_rows, runs
 
 from samples import CROWD, CROWD_STREAM, Raises
 from slow import START, rounds_slow, scenes_slow, sets_slow
+from slow_ranks import all_rows, runs_slow
 
 # Exactly 400 scenes.
 FULL = (
@@ -36,6 +39,23 @@ HASTY = (Desk(3, ((4, 12, (0, 1, 2), (), False), (2, 1, (0, 1, 2), (), False))),
          Stream(((((0, 0, 0), 0), ((0,), 0), ((1,), 0)),)))
 
 
+# With promises longer by 6 exactly 400 scenes, and exactly 401; less long, there are fewer, and papers.
+MORE_400 = (Desk(1, ((4, 3, (0,), (), False),)), Stream(((((0,), 1),), (((), 0),))))
+MORE_401 = (MORE_400[0], Stream(((((), 1),), (((0,), 0),))))
+# With promises longer by 2 exactly 400 scenes, and a book.
+MORE_BOOK = (Desk(3, ((3, 6, (1,), (), True), (4, 2, (0, 2), (), True))),
+             Stream(((((1,), 1), ((), 1), ((0, 1), 0)), (((1,), 1),))))
+
+# More than 400 scenes; but one alone if all that comes in is done at once.
+AT_ONCE = (Desk(3, ((1, 12, (0, 1, 2), (), False), (1, 11, (0, 1, 2), (), False))),
+           Stream(((((0, 0, 1), 0), ((0, 1, 1), 0), ((), 0)),)))
+
+
+def by_time(desk):
+    """A ranking of all that the agents may do, what is due ahead, of at most 200 rows."""
+    return sorted(all_rows(desk), key=lambda row: row[3])[:200]
+
+
 class ScenesTest(Raises):
 
     def test_exactly_four_hundred(self):
@@ -49,19 +69,51 @@ class ScenesTest(Raises):
             self.assertEqual(rounds(desk, stream), rounds_slow(desk, stream, scenes))
             self.assertEqual(scenes_behind(desk, stream, ()), (START,))
             self.assertEqual(knowing(desk, stream)[0], "sets" if word == "book" else "course")
+            self.assertEqual(fewest_agents(desk, stream) is None, word == "paper")
+            for ranking in ((), by_time(desk)):
+                many, scenes, used = runs_slow(desk, stream, ranking)
+                said, found = runs(desk, stream, ranking)
+                self.assertEqual((said, len(found)), ("closed", len(scenes)) if many is None else ("course", many))
+                self.assertEqual(idle_rows(desk, stream, ranking),
+                                 tuple(at for at in range(len(ranking)) if at not in used))
         self.assertEqual(sorted(told), ["book", "paper", "paper"])
 
     def test_one_more(self):
         self.assertEqual(len(scenes_slow(*OVER, 401)), 401)
         for call in (keep, rounds, knowing):
             self.assert_word("scenes", call, *OVER)
+        for call in (least_more, fewest_agents):
+            self.assert_word("scenes", call, *OVER)
         for course in ((), (0,), (1,) * 300):
             self.assert_word("scenes", scenes_behind, *OVER, course)
+        for ranking in ((), by_time(OVER[0])):
+            self.assert_word("scenes", runs, *OVER, ranking)
+            self.assert_word("scenes", idle_rows, *OVER, ranking)
 
     def test_many_more(self):
-        for call in (keep, rounds, knowing):
+        for call in (keep, rounds, knowing, fewest_agents):
             self.assert_word("scenes", call, CROWD, CROWD_STREAM)
             self.assert_word("scenes", call, *HASTY)
+
+    def test_more_than_the_ranking_leads_to(self):
+        for place in (AT_ONCE, HASTY):
+            for ranking in ((), [(agent, kind, 1, time) for agent in range(3) for kind, time in ((0, 12), (1, 11))]):
+                self.assert_word("scenes", runs, *place, ranking)
+                self.assert_word("scenes", idle_rows, *place, ranking)
+
+    def test_longer_by_six(self):
+        self.assertEqual(len(scenes_slow(longer(MORE_400[0], 6), MORE_400[1], 500)), 400)
+        self.assertIsNone(least_more(*MORE_400))
+        self.assertEqual(len(scenes_slow(longer(MORE_401[0], 6), MORE_401[1], 500)), 401)
+        self.assertEqual(len(scenes_slow(longer(MORE_401[0], 5), MORE_401[1], 500)), 206)
+        self.assert_word("scenes", least_more, *MORE_401)
+
+    def test_longer_by_two(self):
+        desk, stream = MORE_BOOK
+        self.assertEqual([len(scenes_slow(longer(desk, more), stream, 500)) for more in range(3)], [8, 29, 400])
+        more, book, papers = least_more(desk, stream)
+        self.assertEqual((more, len(papers)), (2, 2))
+        self.assertTrue(book_holds(longer(desk, 2), stream, book))
 
 
 class SetsTest(Raises):
